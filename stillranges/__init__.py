@@ -1,0 +1,1 @@
+"""stillranges: a bounds checker that never widens."""
