@@ -74,9 +74,9 @@ def _end_told(word):
 
 
 def _range_told(word):
-    low, dots, high = word.partition("..")
-    ends = _end_told(low) + _end_told(high)
-    return tuple(ends) if dots and len(ends) == 2 else None
+    """What a word tells as a range, perhaps none at all."""
+    low, _, high = word.partition("..")
+    return tuple(_end_told(low) + _end_told(high))
 
 
 def _short_deed_told(words):

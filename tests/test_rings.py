@@ -123,6 +123,15 @@ class Rings(Case):
             else:
                 self.alike(sorted(loose_ring(pair, [0, 1], plan)), ring)
 
+    def test_a_ring_through_all_bounds(self):
+        for number, sound in ((4, True), (5, False), (6, False)):
+            steps = [(0, 0, ("turn", "x", "x", 5)), (0, 0, ("turn", "x", "x", number))]
+            whole = (["x"], 1, [(0, 0)], steps)
+            plan = [(0, 0), (1, 0)]
+            self.alike(ring_sum(whole, [0, 1], plan, [(0, "x", "low"), (0, "x", "high")]), 5 - number)
+            self.assertIs(is_sound(whole, [0, 1], plan), sound)
+            self.assertEqual(loose_ring(whole, [0, 1], plan) is None, sound)
+
     def test_against_all_rings(self):
         chance = dice(13)
         sound = []
@@ -159,7 +168,7 @@ class Rings(Case):
         names = ["a", "b", "c", "d", "e"]
         began = time.perf_counter()
         for last, sound in ((-10, True), (-11, False), (-FAR, False)):
-            steps = [(place, (place + 1) % 12, ("add", "a", "a", 1 if place < 11 else last + 0)) for place in range(12)]
+            steps = [(place, (place + 1) % 12, ("add", "a", "a", 1 if place < 11 else last)) for place in range(12)]
             program = (names, 12, [(0, 0)] * 5, steps)
             opened = list(range(12))
             plan = [(None, 0)] * 10
