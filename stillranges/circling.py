@@ -45,8 +45,8 @@ def _pass_over(edges, scale, far, ahead):
     return last
 
 
-def _ring_ahead_of(bound, ahead, many):
-    """The ring to which the bounds ahead of a bound come back."""
+def ring_ahead_of(bound, ahead, many):
+    """The ring to which one comes that goes back from a bound, so many bounds being there at most."""
     for _ in range(many):
         bound = ahead[bound]
     ring = [bound]
@@ -71,4 +71,4 @@ def ring_not_above(program, opened, plan):
         last = _pass_over(edges, many + 1, far, ahead)
         if last is None:
             return None
-    return _ring_ahead_of(last, ahead, many)
+    return ring_ahead_of(last, ahead, many)

@@ -42,13 +42,18 @@ def _beginnings(start):
     return held
 
 
+def left_by_input(program, key, step):
+    """What an input leaves of a key: its step, and the numbers ahead of the one written and behind it."""
+    at = program[0].index(program[3][step][2][1])
+    return (step, key[1][:at], key[1][at + 1:])
+
+
 def _input_moves(program, key, step, seen):
     """The moves by an input, none where its states behind are found: the number written alone is forgotten."""
-    _, name, (low, high) = program[3][step][2]
+    low, high = program[3][step][2][2]
     # Each number that comes in leads to a state of its own, so more of them are too many states.
     _need_few(size_of((low, high)))
-    at = program[0].index(name)
-    others = (step, key[1][:at], key[1][at + 1:])
+    others = left_by_input(program, key, step)
     if others in seen:
         return []
     seen[others] = True

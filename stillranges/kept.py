@@ -3,7 +3,7 @@
 from stillranges.causes import leads_to, numbers_ahead
 from stillranges.needs import need_deed, need_name, need_number, need_program, need_row, need_step, need_table
 from stillranges.plain import some_numbers
-from stillranges.rows import cut_row, holds_start_row, row_behind, row_by_step, steps_not_kept, table_led
+from stillranges.rows import cut_row, holds_start_row, kept_table, row_behind, row_by_step, steps_not_kept, table_led
 
 
 def _need_deed_and_row(program, deed, row):
@@ -79,4 +79,4 @@ def not_kept(program, table):
 def is_kept(program, table):
     need_program(program)
     need_table(program, table)
-    return holds_start_row(program, table) and not steps_not_kept(program, table)
+    return kept_table(program, table)

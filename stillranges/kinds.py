@@ -5,6 +5,7 @@ from stillranges.errors import InvalidBound
 from stillranges.needs import need_bound, need_names, need_place, need_program, need_step, need_table
 from stillranges.plain import SIDES, TESTS, a_bound, a_deed, a_name, a_place, a_program, a_range, a_row, a_state
 from stillranges.plain import a_table, an_end, some_names, some_open
+from stillranges.rows import end_of
 
 
 def is_end(value):
@@ -107,8 +108,6 @@ def end_at(program, table, bound):
     need_program(program)
     need_table(program, table)
     need_bound(program, bound)
-    place, name, side = bound
-    if table[place] is None:
+    if table[bound[0]] is None:
         raise InvalidBound(bound)
-    low, high = table[place][program[0].index(name)]
-    return low if side == "low" else high
+    return end_of(program, table, bound)

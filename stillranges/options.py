@@ -12,9 +12,12 @@ from stillranges.spans import end_plus
 PICKED_SIDES = {"greatest": "high", "least": "low"}
 
 
+def bounds_at(program, place):
+    return [(place, name, side) for name in program[0] for side in SIDES]
+
+
 def bounds_come_to(program, opened):
-    places = places_come_to(program, opened)
-    return [(place, name, side) for place in places for name in program[0] for side in SIDES]
+    return [bound for place in places_come_to(program, opened) for bound in bounds_at(program, place)]
 
 
 def reach_of(span, side):
@@ -93,11 +96,28 @@ def sides_at(program, bound, option):
     return [((source, name, side), 0)] + _cutting_sides(source, deed, name, side)
 
 
-def worth_at(program, bound, option, worths):
-    """The worth of an option by a dict of the values of bounds."""
-    sides = sides_at(program, bound, option)
+def system_of(program, opened):
+    """The dict of the bounds come to, with the dict of the options of each, in order, with their sides."""
+    system = {bound: {} for bound in bounds_come_to(program, opened)}
+    for bound in bounds_at(program, 0):
+        system[bound][(None, 0)] = sides_at(program, bound, (None, 0))
+    for step in opened:
+        _, target, deed = program[3][step]
+        for bound in bounds_at(program, target):
+            system[bound][(step, 0)] = sides_at(program, bound, (step, 0))
+            if _has_picks(deed, bound[1], bound[2]):
+                system[bound][(step, 1)] = sides_at(program, bound, (step, 1))
+    return system
+
+
+def worth_of(sides, worths):
+    """The least worth of some sides by a dict of the values of bounds."""
     worth = [addend if at is None else end_plus(worths[at], addend) for at, addend in sides]
     return min([reach for reach in worth if reach is not None], default=None)
+
+
+def worth_at(program, bound, option, worths):
+    return worth_of(sides_at(program, bound, option), worths)
 
 
 def some_values(program, opened, value):
@@ -111,18 +131,39 @@ def worths_of(program, opened, values):
     return dict(zip(bounds_come_to(program, opened), values))
 
 
+def reaches_in(program, opened, table):
+    """The values that a table with rows at all places come to has."""
+    bounds = bounds_come_to(program, opened)
+    return [reach_of(table[place][program[0].index(name)], side) for place, name, side in bounds]
+
+
+def _span_with(worths, place, name):
+    """The range of a name with some values, None if its low end were above the high one."""
+    high, turned_low = worths[(place, name, "high")], worths[(place, name, "low")]
+    low = None if turned_low is None else -turned_low
+    return None if low is not None and high is not None and low > high else (low, high)
+
+
+def table_with(program, opened, worths):
+    """The table with some values at the places come to, None instead of it if a low end were above its high one."""
+    table = [None] * program[1]
+    for place in places_come_to(program, opened):
+        table[place] = [_span_with(worths, place, name) for name in program[0]]
+        if None in table[place]:
+            return None
+    return table
+
+
 def _enough(reach, worth):
     return reach is None or (worth is not None and worth <= reach)
 
 
-def _bound_kept(program, opened, bound, worths):
-    options = options_at(program, opened, bound)
-    return all([_enough(worths[bound], worth_at(program, bound, option, worths)) for option in options])
-
-
 def values_kept(program, opened, values):
     worths = worths_of(program, opened, values)
-    return all([_bound_kept(program, opened, bound, worths) for bound in bounds_come_to(program, opened)])
+    for bound, options in system_of(program, opened).items():
+        if not all([_enough(worths[bound], worth_of(sides, worths)) for sides in options.values()]):
+            return False
+    return True
 
 
 def an_option(program, opened, bound, value):

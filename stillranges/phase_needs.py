@@ -1,6 +1,7 @@
 """What refuses an argument that is not of the kind it has to be in a phase."""
 
-from stillranges.errors import InvalidBound, InvalidPlan, InvalidTable
+from stillranges.circling import ring_not_above
+from stillranges.errors import InvalidBound, InvalidPlan, InvalidTable, Stuck
 from stillranges.needs import need_bound, need_open, need_program
 from stillranges.options import a_plan, an_option, some_values
 from stillranges.plain import places_come_to
@@ -30,3 +31,14 @@ def need_values(program, opened, values):
 def need_plan(program, opened, plan):
     if not a_plan(program, opened, plan):
         raise InvalidPlan(plan)
+
+
+def need_phase_and_plan(program, opened, plan):
+    need_phase(program, opened)
+    need_plan(program, opened, plan)
+
+
+def need_sound(program, opened, plan):
+    need_plan(program, opened, plan)
+    if ring_not_above(program, opened, plan) is not None:
+        raise Stuck(plan)

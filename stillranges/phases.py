@@ -2,8 +2,8 @@
 
 from stillranges.errors import InvalidTable
 from stillranges.needs import need_table
-from stillranges.options import a_plan, bounds_come_to, options_at, reach_of, sides_at, some_values, values_kept
-from stillranges.options import worth_at, worths_of
+from stillranges.options import a_plan, bounds_come_to, options_at, reaches_in, sides_at, some_values, table_with
+from stillranges.options import values_kept, worth_at, worths_of
 from stillranges.phase_needs import need_bound_come_to, need_option, need_phase, need_values
 from stillranges.plain import places_come_to
 
@@ -61,25 +61,11 @@ def values_of_table(program, opened, table):
     places = places_come_to(program, opened)
     if None in [table[place] for place in places]:
         raise InvalidTable(table)
-    bounds = bounds_come_to(program, opened)
-    return [reach_of(table[place][program[0].index(name)], side) for place, name, side in bounds]
-
-
-def _span_with(worths, place, name):
-    """The range of a name with some values, None if its low end were above the high one."""
-    high, turned_low = worths[(place, name, "high")], worths[(place, name, "low")]
-    low = None if turned_low is None else -turned_low
-    return None if low is not None and high is not None and low > high else (low, high)
+    return reaches_in(program, opened, table)
 
 
 def table_of_values(program, opened, values):
     """The table with some values at the places come to, None instead of it if a low end were above its high one."""
     need_phase(program, opened)
     need_values(program, opened, values)
-    worths = worths_of(program, opened, values)
-    table = [None] * program[1]
-    for place in places_come_to(program, opened):
-        table[place] = [_span_with(worths, place, name) for name in program[0]]
-        if None in table[place]:
-            return None
-    return table
+    return table_with(program, opened, worths_of(program, opened, values))

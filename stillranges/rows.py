@@ -22,6 +22,13 @@ def met_rows(row, other):
     return None if None in both else both
 
 
+def end_of(program, table, bound):
+    """A bound's value in a table that has a row at its place."""
+    place, name, side = bound
+    low, high = table[place][program[0].index(name)]
+    return low if side == "low" else high
+
+
 def copied_row(row):
     return None if row is None else list(row)
 
@@ -129,3 +136,7 @@ def steps_not_kept(program, table):
         if not within_at_place(row_by_step(program, step, table), table[target]):
             amiss.append(step)
     return amiss
+
+
+def kept_table(program, table):
+    return holds_start_row(program, table) and not steps_not_kept(program, table)

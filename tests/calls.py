@@ -197,4 +197,3 @@ RINGS = [
 ]
 MODULES = [(kinds, KINDS), (texts, TEXTS), (running, RUNNING), (ranges, RANGES), (kept, KEPT), (phases, PHASES),
            (rings, RINGS)]
-CALLS = [(function, good, told[0], told[1]) for _, calls in MODULES for function, good, told in calls]

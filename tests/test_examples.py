@@ -17,7 +17,7 @@ class Examples(Case):
                 self.alike(eval(ahead, names), eval(line[2:], {}))
                 checked += 1
                 ahead = None
-            elif line.startswith(("[", "first_run_to(", "bounds_of(", "text_of_program(")):
+            elif line.startswith(("[", "openings(", "bounds_of(", "text_of_program(")):
                 ahead = line
             else:
                 exec(line, names)
@@ -26,14 +26,20 @@ class Examples(Case):
     def test_behind_7(self):
         self.run_example("behind_7.txt", 8)
 
-    def test_behind_14_with_running_alone(self):
+    def test_behind_14(self):
         self.run_example("behind_14.txt", 3)
 
     def test_behind_20(self):
         self.run_example("behind_20.txt", 7)
 
+    def test_behind_26(self):
+        self.run_example("behind_26.txt", 7)
+
     def test_behind_28(self):
         self.run_example("behind_28.txt", 4)
 
-    def test_behind_46_with_rings_alone(self):
-        self.run_example("behind_46.txt", 1)
+    def test_behind_35_with_papers_alone(self):
+        self.run_example("behind_35.txt", 3)
+
+    def test_behind_46(self):
+        self.run_example("behind_46.txt", 4)

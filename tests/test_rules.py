@@ -2,8 +2,11 @@
 
 import inspect
 
-from tests.calls import CALLS, MODULES
+from tests import calls, later_calls
 from tests.helpers import JUNK, Case, alike, copied, lists_in
+
+MODULES = calls.MODULES + later_calls.MODULES
+CALLS = [(function, good, told[0], told[1]) for _, rows in MODULES for function, good, told in rows]
 
 INTERFACE = {
     "kinds": "is_end is_range is_name are_names is_program is_deed is_place is_state is_row is_table is_bound is_open "
@@ -18,6 +21,12 @@ INTERFACE = {
     "phases": "phase_bounds options_of sides_of option_worth are_values are_kept_values is_plan values_of_table "
               "table_of_values",
     "rings": "is_ring ring_sum is_sound loose_ring",
+    "plans": "values_of road_of is_road gains turned first_plan row_of_plans is_row_of_plans rest_of carried widened",
+    "least": "least_table is_least range_at reached_places openings openings_by is_openings greatest_told end_limit",
+    "hulls": "hull_of hull whole_hull lost_bounds run_to_bound is_round any_round most_moves",
+    "turned": "scaled scaled_table moved moved_table mirrored mirrored_table with_places with_places_table with_names "
+              "with_names_table with_steps",
+    "papers": "is_paper paper_of is_proof is_proof_of proof_of is_shown answer_to is_answer",
 }
 
 
@@ -27,10 +36,10 @@ def good_of(function):
 
 class Interface(Case):
     def test_every_name_is_called_here_and_defined_in_its_file(self):
-        for module, calls in MODULES:
+        for module, rows in MODULES:
             short = module.__name__.split(".")[-1]
-            self.assertEqual([call[0].__name__ for call in calls], INTERFACE[short].split())
-            for function, _, told in calls:
+            self.assertEqual([call[0].__name__ for call in rows], INTERFACE[short].split())
+            for function, _, told in rows:
                 self.assertEqual(function.__module__, module.__name__)
                 self.assertIs(getattr(module, function.__name__), function)
                 self.assertEqual(list(inspect.signature(function).parameters), told[0])
@@ -121,6 +130,7 @@ class Telling(Case):
             "is_bound": [(0, "x", "low")],
             "is_open": [[]],
             "can_go": [(0, None)],
+            "is_proof": [[]],
         }
         for function, good, names, _ in CALLS:
             if names[-1] == "value":
