@@ -33,42 +33,63 @@ def sum_round(program, opened, plan, ring):
     return sum([edges[pair] for pair in _pairs_round(ring)])
 
 
-def _pass_over(edges, scale, far, ahead):
-    """Goes over all edges once, and returns the last bound that is come to nearer, None if none is."""
-    last = None
+def _pass_over(edges, scale, far, on):
+    """Goes over all edges once, and returns the dict of the bounds that lie nearer now."""
+    nearer = {}
     for (bound, behind), addend in edges.items():
-        reach = far[bound] + addend * scale - 1
-        if reach < far[behind]:
-            far[behind] = reach
-            ahead[behind] = bound
-            last = behind
-    return last
+        reach = far[behind] + addend * scale - 1
+        if reach < far[bound]:
+            far[bound] = reach
+            on[bound] = behind
+            nearer[bound] = True
+    return nearer
 
 
-def ring_ahead_of(bound, ahead, many):
-    """The ring to which one comes that goes back from a bound, so many bounds being there at most."""
+def _always_nearer(edges, bounds, on):
+    """The dict of the bounds that lie nearer still behind as many passes as there are bounds, and on which way.
+
+    With each addend taken `many` + 1 times and less by 1, a ring of at most `many` bounds sums to less than 0
+    exactly if its sum is at most 0. So these bounds lead to such rings alone, and at least one of each ring is there.
+    """
+    far = {bound: 0 for bound in bounds}
+    nearer = {}
+    for _ in range(len(bounds)):
+        nearer = _pass_over(edges, len(bounds) + 1, far, on)
+        if not nearer:
+            return nearer
+    return nearer
+
+
+def ring_followed(node, on, many):
+    """The ring to which one comes from a node, going on from each to the next one, where there are so many at most."""
     for _ in range(many):
-        bound = ahead[bound]
-    ring = [bound]
-    while ahead[ring[-1]] != bound:
-        ring.append(ahead[ring[-1]])
-    return ring[::-1]
+        node = on[node]
+    ring = [node]
+    while on[ring[-1]] != node:
+        ring.append(on[ring[-1]])
+    return ring
 
 
 def ring_not_above(program, opened, plan):
-    """A ring whose sum is at most 0, None if there is none.
-
-    With each addend taken `many` + 1 times and less by 1, a ring of at most `many` bounds sums to less than 0
-    exactly if its sum is at most 0; and nearer and nearer ways without end are there exactly if such a ring is.
-    """
+    """A ring whose sum is at most 0, None if there is none."""
     bounds = bounds_come_to(program, opened)
-    many = len(bounds)
+    on = {}
+    nearer = _always_nearer(edges_of(program, opened, plan), bounds, on)
+    return ring_followed(list(nearer)[-1], on, len(bounds)) if nearer else None
+
+
+def led_to_rings_not_above(program, opened, plan):
+    """The dict of the bounds from which a plan can lead to a ring whose sum is at most 0."""
+    bounds = bounds_come_to(program, opened)
     edges = edges_of(program, opened, plan)
-    far = {bound: 0 for bound in bounds}
-    ahead = {}
-    last = None
-    for _ in range(many):
-        last = _pass_over(edges, many + 1, far, ahead)
-        if last is None:
-            return None
-    return ring_ahead_of(last, ahead, many)
+    ahead = {bound: [] for bound in bounds}
+    for bound, behind in edges:
+        ahead[behind].append(bound)
+    led = _always_nearer(edges, bounds, {})
+    waiting = list(led)
+    while waiting:
+        for bound in ahead[waiting.pop()]:
+            if bound not in led:
+                led[bound] = True
+                waiting.append(bound)
+    return led

@@ -1,6 +1,10 @@
-"""What deeds read, write and make of numbers. Programs, deeds and numbers are trusted to be some."""
+"""What deeds read, write and make of numbers. Programs, deeds and numbers are trusted to be some.
+
+With a width numbers are wrapped as a machine of it does, without one (None) they are of any size.
+"""
 
 from stillranges.plain import DEED_FORMS, TESTS, WRITING
+from stillranges.wrapping import number_wrapped
 
 
 def written_name(deed):
@@ -16,7 +20,7 @@ def read_names(deed):
     return sorted(set(named))
 
 
-def passes(names, deed, numbers):
+def passes(names, deed, numbers, width=None):
     """Whether one can go on by a deed with these numbers."""
     word = deed[0]
     if word not in TESTS:
@@ -26,7 +30,7 @@ def passes(names, deed, numbers):
         return first <= deed[2]
     if word == "from":
         return first >= deed[2]
-    second = numbers[names.index(deed[2])] + deed[3]
+    second = number_wrapped(width, numbers[names.index(deed[2])] + deed[3])
     return first <= second if word == "below" else first == second
 
 
@@ -46,9 +50,9 @@ def number_made(names, deed, numbers, given):
     return min(second, third) if word == "least" else max(second, third)
 
 
-def numbers_behind(names, deed, numbers, given):
+def numbers_behind(names, deed, numbers, given, width=None):
     """A new list of the numbers behind a deed that they pass."""
     behind = list(numbers)
     if deed[0] in WRITING:
-        behind[names.index(deed[1])] = number_made(names, deed, numbers, given)
+        behind[names.index(deed[1])] = number_wrapped(width, number_made(names, deed, numbers, given))
     return behind

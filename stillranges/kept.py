@@ -3,7 +3,8 @@
 from stillranges.causes import leads_to, numbers_ahead
 from stillranges.needs import need_deed, need_name, need_number, need_program, need_row, need_step, need_table
 from stillranges.plain import some_numbers
-from stillranges.rows import cut_row, holds_start_row, kept_table, row_behind, row_by_step, steps_not_kept, table_led
+from stillranges.rows import cut_row, holds_start_row, kept_table, row_behind, row_by_step, steps_holding
+from stillranges.rows import steps_not_kept, table_led
 
 
 def _need_deed_and_row(program, deed, row):
@@ -52,7 +53,7 @@ def holding_at(program, table):
     """The numbers of the steps of which something comes."""
     need_program(program)
     need_table(program, table)
-    return [step for step in range(len(program[3])) if row_by_step(program, step, table) is not None]
+    return steps_holding(program, table)
 
 
 def led_by(program, table):

@@ -5,7 +5,7 @@ next turn begins with its plan, so nothing is found twice.
 """
 
 from stillranges.options import system_of, table_with
-from stillranges.rows import row_by_step
+from stillranges.rows import steps_holding
 from stillranges.solving import carried_on, plans_from
 
 
@@ -20,8 +20,7 @@ def first_turn(program):
 def steps_to_open(program, turn):
     """The numbers of the steps that can hold at the table of a turn and are not open."""
     opened, table, _ = turn
-    steps = range(len(program[3]))
-    return [step for step in steps if step not in opened and row_by_step(program, step, table) is not None]
+    return [step for step in steps_holding(program, table) if step not in opened]
 
 
 def turn_behind(program, turn, steps):

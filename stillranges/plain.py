@@ -86,7 +86,7 @@ def a_deed(names, value):
     return value[0] not in PAIR_TESTS or value[1] != value[2]
 
 
-def _a_number_below(many, value):
+def a_number_below(many, value):
     return a_whole(value) and 0 <= value < many
 
 
@@ -94,7 +94,7 @@ def _a_step(names, many, value):
     if not isinstance(value, tuple) or len(value) != 3:
         return False
     source, target, deed = value
-    return _a_number_below(many, source) and _a_number_below(many, target) and a_deed(names, deed)
+    return a_number_below(many, source) and a_number_below(many, target) and a_deed(names, deed)
 
 
 def _some_ranges(names, value):
@@ -117,11 +117,11 @@ def a_name_of(program, value):
 
 
 def a_place(program, value):
-    return _a_number_below(program[1], value)
+    return a_number_below(program[1], value)
 
 
 def a_step_number(program, value):
-    return _a_number_below(len(program[3]), value)
+    return a_number_below(len(program[3]), value)
 
 
 def some_numbers(program, value):
@@ -158,18 +158,23 @@ def a_bound(program, value):
     return a_place(program, place) and a_name_of(program, name) and a_side(side)
 
 
-def places_come_to(program, opened):
-    """The ascending list of the places that are come to by some steps."""
-    come = {0: True}
-    waiting = [0]
+def come_by(program, opened, places):
+    """The dict of the places come to from some places on, with the step by which each is, None for these."""
+    steps = {place: None for place in places}
+    waiting = list(places)
     while waiting:
         place = waiting.pop()
         for step in opened:
             source, target, _ = program[3][step]
-            if source == place and target not in come:
-                come[target] = True
+            if source == place and target not in steps:
+                steps[target] = step
                 waiting.append(target)
-    return sorted(come)
+    return steps
+
+
+def places_come_to(program, opened):
+    """The ascending list of the places that are come to by some steps."""
+    return sorted(come_by(program, opened, [0]))
 
 
 def some_open(program, value):

@@ -4,7 +4,7 @@ A node is the key of a state (see exploring) or what an input leaves of one: fro
 each number that comes in. So an input of many numbers needs few ways, however many states it is done at.
 """
 
-from stillranges.circling import ring_ahead_of
+from stillranges.circling import ring_followed
 from stillranges.exploring import key_of, left_by_input, run_found
 from stillranges.moving import move_goes, state_after, step_goes
 
@@ -84,8 +84,8 @@ def _keys_round(ways):
                 ahead[behind] = node
     if not ahead:
         return []
-    ring = ring_ahead_of(list(ahead)[0], ahead, len(ahead))
-    return [node for node in ring if _is_key(node)]
+    ring = ring_followed(list(ahead)[0], ahead, len(ahead))
+    return [node for node in ring[::-1] if _is_key(node)]
 
 
 def _move_between(program, key, behind):

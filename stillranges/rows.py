@@ -1,7 +1,8 @@
 """Rows and tables put together, and what comes of them. Everything handed in is trusted to be what it should."""
 
 from stillranges.plain import TESTS, WRITING
-from stillranges.spans import greatest_of, holds, joined, least_of, lies_within, met, plus, turned_about
+from stillranges.spans import greatest_of, holds, joined, least_of, lies_within, met, plus
+from stillranges.sums import has_sum, sum_span
 
 
 def row_holds(row, numbers):
@@ -54,18 +55,10 @@ def within_table(table, other):
 
 def _span_made(names, deed, row):
     """The range of the numbers that a writing deed writes."""
-    word = deed[0]
-    if word == "set":
-        return (deed[2], deed[2])
-    if word == "input":
-        return deed[2]
-    second = row[names.index(deed[2])]
-    if word == "add":
-        return plus(second, deed[3])
-    if word == "turn":
-        return turned_about(second, deed[3])
-    third = row[names.index(deed[3])]
-    return least_of(second, third) if word == "least" else greatest_of(second, third)
+    if has_sum(deed):
+        return sum_span(names, deed, row)
+    second, third = row[names.index(deed[2])], row[names.index(deed[3])]
+    return least_of(second, third) if deed[0] == "least" else greatest_of(second, third)
 
 
 def _cut_by_pair(names, deed, row):
@@ -112,6 +105,11 @@ def row_by_step(program, step, table):
     if table[source] is None:
         return None
     return row_behind(program[0], deed, table[source])
+
+
+def steps_holding(program, table):
+    """The numbers of the steps of which something comes."""
+    return [step for step in range(len(program[3])) if row_by_step(program, step, table) is not None]
 
 
 def table_led(program, table):

@@ -1,20 +1,14 @@
 """Running: moves, runs, the states that they reach, and whether runs leave a table."""
 
-from stillranges.errors import InvalidRun, InvalidStep
+from stillranges.errors import InvalidStep
 from stillranges.exploring import found_within, key_of, run_found, state_of, states_found
 from stillranges.moving import move_goes, run_states, state_after, step_goes, table_holds
 from stillranges.needs import need_count, need_program, need_state, need_table
+from stillranges.run_needs import needed_states
 
 
 def _steps_going(program, state):
     return [step for step in range(len(program[3])) if step_goes(program, state, step)]
-
-
-def _needed_states(program, run):
-    states = run_states(program, run)
-    if states is None:
-        raise InvalidRun(run)
-    return states
 
 
 def can_go(program, state, value):
@@ -47,7 +41,7 @@ def is_run(program, value):
 def states_of(program, run):
     """The states of a run, the first one ahead."""
     need_program(program)
-    return _needed_states(program, run)
+    return needed_states(program, run)
 
 
 def reached(program, most):
@@ -89,7 +83,7 @@ def first_left(program, table, run):
     """The number of the first state of a run that a table does not hold, None if it holds them all."""
     need_program(program)
     need_table(program, table)
-    for number, state in enumerate(_needed_states(program, run)):
+    for number, state in enumerate(needed_states(program, run)):
         if not table_holds(table, state):
             return number
     return None

@@ -5,6 +5,7 @@ and values are here dicts of bounds. All of them are trusted to be what they sho
 """
 
 from stillranges.options import bounds_at, worth_of
+from stillranges.plain import come_by
 
 
 def _leading(system, plan):
@@ -87,15 +88,9 @@ def carried_on(program, opened, plan):
     whole = {bound: option for bound, option in plan.items()}
     for bound in bounds_at(program, 0):
         whole.setdefault(bound, (None, 0))
-    come = {bound[0]: True for bound in whole}
-    waiting = list(come)
-    while waiting:
-        place = waiting.pop()
-        for step in opened:
-            source, target, _ = program[3][step]
-            if source == place and target not in come:
-                come[target] = True
-                waiting.append(target)
-                for bound in bounds_at(program, target):
-                    whole[bound] = (step, 0)
+    places = sorted(set([place for place, _, _ in whole]))
+    for place, step in come_by(program, opened, places).items():
+        if step is not None:
+            for bound in bounds_at(program, place):
+                whole[bound] = (step, 0)
     return whole

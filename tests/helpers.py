@@ -5,6 +5,7 @@ import random
 import unittest
 
 from stillranges import errors
+from stillranges.running import can_go
 
 LOOP = (["i"], 3, [(0, 0)], [(0, 1, ("upto", "i", 9)), (1, 0, ("add", "i", "i", 1)), (0, 2, ("from", "i", 10))])
 CLIMB = (["x"], 3, [(0, 1)], [(0, 1, ("upto", "x", 2)), (1, 0, ("add", "x", "x", 1)), (0, 2, ("from", "x", 3))])
@@ -125,6 +126,15 @@ def any_program(chance, names=2, places=3, steps=5, endless=0.0):
 def numbers_held(row):
     """All lists of numbers that a row without endless ends holds."""
     return [list(numbers) for numbers in itertools.product(*[range(low, high + 1) for low, high in row])]
+
+
+def moves_from(program, state):
+    """All moves that can go from a state."""
+    moves = []
+    for step, (_, _, deed) in enumerate(program[3]):
+        numbers = range(deed[2][0], deed[2][1] + 1) if deed[0] == "input" else [None]
+        moves += [(step, number) for number in numbers if can_go(program, state, (step, number))]
+    return moves
 
 
 class Case(unittest.TestCase):

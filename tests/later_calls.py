@@ -1,9 +1,10 @@
-"""What tests/calls.py tells, of the modules of the least table: plans, least, hulls, turned and papers."""
+"""What tests/calls.py tells, of the modules behind: plans, least, hulls, turned, papers, lots, games, widths, checks."""
 
-from stillranges import errors, hulls, least, papers, plans, turned
+from stillranges import checks, errors, games, hulls, least, lots, papers, plans, turned, widths
 from tests.calls import (
     ANY, COME_TO, COUNT, FULL, HIGH, LOOP_OPENED, LOOP_TABLE, NAME, NUMBER, OF_OPEN, OF_OPTIONS, OF_PHASE, OF_PLAN,
-    OF_PROGRAM, OF_TABLE, PLACE, PLAN, PLAN_HERE, PROGRAM, RING_HERE, TABLE_HERE, beside, wrong)
+    OF_PROGRAM, OF_STEP, OF_TABLE, PLACE, PLAN, PLAN_HERE, PROGRAM, RING_HERE, RUN, RUN_HERE, SPAN, TABLE_HERE,
+    VALUES, beside, wrong)
 from tests.helpers import LOOP, copied
 
 LOW_PLAN = [(None, 0), (None, 0), (0, 0), (0, 0)]
@@ -97,4 +98,74 @@ PAPERS = [
     (papers.answer_to, (LOOP, HIGH, 9), CLAIM),
     (papers.is_answer, (LOOP, HIGH, 10, ("yes", LEAST)), beside(CLAIM, "value", ANY)),
 ]
-MODULES = [(plans, PLANS), (least, LEAST_CALLS), (hulls, HULLS), (turned, TURNED), (papers, PAPERS)]
+WIDER = [[(0, 12)], [(0, 9)], [(10, 12)]]
+ENDLESS = [[(0, None)], [(0, 9)], [(10, None)]]
+BOTH = [(0, "i", "high"), (2, "i", "high")]
+REPLY_HERE = [[0, 0], [0, 0], [1], [0]]
+OF_LOOP_TABLE = (["program", "table"], [PROGRAM, LOOP_TABLE])
+LOT = wrong(errors.InvalidBound, [], [
+    BOTH[::-1], BOTH + BOTH[1:], tuple(BOTH), [list(bound) for bound in BOTH], [(3, "i", "high")], [(0, "x", "high")],
+    [(False, "i", "high")], BOTH + [None], BOTH[0]])
+REPLY = wrong(errors.InvalidPlan, [], [
+    [[0, 0], [0, 0], [1]], [[0, 0], [0, 0], [1], [0], []], ((0, 0), (0, 0), (1,), (0,)), [[0, 0], [0, 1], [1], [0]],
+    [[0, 0], [0, 0], [2], [0]], [[0, 0], [0, 0], [True], [0]], [[0, 0], [0, 0], [-1], [0]], [[0], [0, 0], [1], [0]],
+    [[0, 0], [0, 0], [1, 0], [0]], [[0, 0], [0, 0], [None], [0]], [[0, 0], [0, 0], (1,), [0]]])
+KEPT_VALUES = wrong(errors.InvalidTable, [], VALUES[1][-5:] + [[9, 0, 9, 0], [10, -1, 9, 0], [0, 0, 0, 0]])
+WIDTH = wrong(errors.InvalidWidth, [1, 2, 10 ** 29], ["8", [8]])
+STEPS = wrong(errors.InvalidStep, [[], [1]], [[1, 0], [0, 0], (0, 1), [0, 20], [-1, 0], [False], [0, True], [0, "1"], [0, None]])
+USES = wrong(errors.InvalidWish, [[]], [
+    [(0, "x", -1)], [(4, "x", 3)], [(0, "w", 3)], [[0, "x", 3]], ((0, "x", 3),), [(0, "x", True)], [(False, "x", 3)],
+    [(0, "x", 3), None], [(0, "x")], [(0, "x", 3, 0)], [(0, "x", "3")]])
+OF_WIDTH = (["program", "width"], [PROGRAM, WIDTH])
+
+LOTS = [
+    (lots.is_level, (LOOP, WIDER), OF_LOOP_TABLE),
+    (lots.can_be_lowered, (LOOP, WIDER, BOTH), beside(OF_LOOP_TABLE, "lot", LOT)),
+    (lots.lowered_by, (LOOP, WIDER, BOTH), beside(OF_LOOP_TABLE, "lot", LOT)),
+    (lots.greatest_lot, (LOOP, WIDER), OF_LOOP_TABLE),
+    (lots.lowest, (LOOP, WIDER), OF_LOOP_TABLE),
+    (lots.rounds_down, (LOOP, WIDER), OF_LOOP_TABLE),
+    (lots.is_fall, (LOOP, ENDLESS, [(BOTH[0], 0), (BOTH[1], 1)]), beside(OF_LOOP_TABLE, "value", ANY)),
+    (lots.greatest_fall, (LOOP, ENDLESS), OF_LOOP_TABLE),
+    (lots.why_not_least, (LOOP, ENDLESS), OF_LOOP_TABLE),
+]
+GAMES = [
+    (games.is_reply, (LOOP, [0, 1], REPLY_HERE), OF_PHASE),
+    (games.play, (LOOP, [0, 1], HIGH, PLAN_HERE, REPLY_HERE), beside(beside(OF_OPTIONS, "plan", PLAN), "reply", REPLY)),
+    (games.sure_of, (LOOP, [0, 1], PLAN_HERE), OF_PLAN),
+    (games.at_most_of, (LOOP, [0, 1], REPLY_HERE), beside(OF_OPEN, "reply", REPLY)),
+    (games.worths, (LOOP, [0, 1]), OF_OPEN),
+    (games.best_plan, (LOOP, [0, 1]), OF_OPEN),
+    (games.best_reply, (LOOP, [0, 1]), OF_OPEN),
+    (games.is_best_plan, (LOOP, [0, 1], PLAN_HERE), OF_PHASE),
+    (games.is_best_reply, (LOOP, [0, 1], REPLY_HERE), OF_PHASE),
+    (games.reply_of, (LOOP, [0, 1], [10, 0, 9, 0]), beside(OF_OPEN, "values", KEPT_VALUES)),
+    (games.worths_within, (LOOP, [0, 1], 7), beside(OF_OPEN, "turns", COUNT)),
+    (games.turns_for, (LOOP, [0, 1], HIGH), OF_OPTIONS),
+]
+WIDTHS = [
+    (widths.fits, (8, 127), (["width", "number"], [WIDTH, NUMBER])),
+    (widths.wrapped, (8, 128), (["width", "number"], [WIDTH, NUMBER])),
+    (widths.width_of, ((-8, 7),), (["span"], [SPAN])),
+    (widths.widths_of, (FULL,), OF_ONE),
+    (widths.start_fits, (FULL, 3), OF_WIDTH),
+    (widths.sum_range, (FULL, 2), OF_STEP),
+    (widths.wants_check, (FULL, 2, 3), beside(OF_STEP, "width", WIDTH)),
+    (widths.wanting, (FULL, 3), OF_WIDTH),
+    (widths.is_wrapped_run, (FULL, 3, RUN_HERE), beside(OF_WIDTH, "value", ANY)),
+    (widths.wrapped_states, (FULL, 3, RUN_HERE), beside(OF_WIDTH, "run", RUN)),
+    (widths.first_unlike, (FULL, 3, RUN_HERE), beside(OF_WIDTH, "run", RUN)),
+]
+CHECKS = [
+    (checks.checked_at, (FULL, 3, [0, 2, 3, 6, 19]), beside(OF_WIDTH, "steps", STEPS)),
+    (checks.checked, (FULL, 3), OF_WIDTH),
+    (checks.idle_checks, (FULL, 3), OF_WIDTH),
+    (checks.is_enough, (FULL, 3, [0, 2, 3, 6, 19]), beside(OF_WIDTH, "steps", STEPS)),
+    (checks.least_enough, (FULL, 3), OF_WIDTH),
+    (checks.dead_steps, (FULL,), OF_ONE),
+    (checks.idle_tests, (FULL,), OF_ONE),
+    (checks.trimmed, (FULL,), OF_ONE),
+    (checks.outside, (FULL, [(0, "x", 3), (3, "z", 0), (0, "x", 3)]), (["program", "uses"], [PROGRAM, USES])),
+]
+MODULES = [(plans, PLANS), (least, LEAST_CALLS), (hulls, HULLS), (turned, TURNED), (papers, PAPERS), (lots, LOTS),
+           (games, GAMES), (widths, WIDTHS), (checks, CHECKS)]

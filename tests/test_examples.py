@@ -38,8 +38,14 @@ class Examples(Case):
     def test_behind_28(self):
         self.run_example("behind_28.txt", 4)
 
-    def test_behind_35_with_papers_alone(self):
-        self.run_example("behind_35.txt", 3)
+    def test_behind_35(self):
+        self.run_example("behind_35.txt", 5)
+
+    def test_behind_40(self):
+        self.run_example("behind_40.txt", 4)
 
     def test_behind_46(self):
         self.run_example("behind_46.txt", 4)
+
+    def test_behind_55(self):
+        self.run_example("behind_55.txt", 2)

@@ -8,8 +8,8 @@ from stillranges.kept import is_kept
 from stillranges.kinds import bounds_of, end_at
 from stillranges.least import least_table
 from stillranges.ranges import table_within
-from stillranges.running import all_reached, can_go, first_run_to, is_run, reached, state_behind, states_of
-from tests.helpers import CLIMB, FAR, LOOP, Case, any_program, dice
+from stillranges.running import all_reached, first_run_to, is_run, reached, state_behind, states_of
+from tests.helpers import CLIMB, FAR, LOOP, Case, any_program, dice, moves_from
 
 ITSELF = (["x"], 2, [(0, 0)], [(0, 1, ("from", "x", 5)), (1, 0, ("set", "x", 9))])
 EVENS = (["x"], 2, [(0, 0)], [(0, 1, ("upto", "x", 7)), (1, 0, ("add", "x", "x", 2))])
@@ -25,15 +25,6 @@ def hull_by_ends(program, states):
         here = [numbers for at, numbers in states if at == place]
         table.append([(min(column), max(column)) for column in zip(*here)] if here else None)
     return table
-
-
-def moves_from(program, state):
-    """All moves that can go from a state."""
-    moves = []
-    for step, (_, _, deed) in enumerate(program[3]):
-        numbers = range(deed[2][0], deed[2][1] + 1) if deed[0] == "input" else [None]
-        moves += [(step, number) for number in numbers if can_go(program, state, (step, number))]
-    return moves
 
 
 def longest_way(program, states):

@@ -27,6 +27,12 @@ INTERFACE = {
     "turned": "scaled scaled_table moved moved_table mirrored mirrored_table with_places with_places_table with_names "
               "with_names_table with_steps",
     "papers": "is_paper paper_of is_proof is_proof_of proof_of is_shown answer_to is_answer",
+    "lots": "is_level can_be_lowered lowered_by greatest_lot lowest rounds_down is_fall greatest_fall why_not_least",
+    "games": "is_reply play sure_of at_most_of worths best_plan best_reply is_best_plan is_best_reply reply_of "
+             "worths_within turns_for",
+    "widths": "fits wrapped width_of widths_of start_fits sum_range wants_check wanting is_wrapped_run wrapped_states "
+              "first_unlike",
+    "checks": "checked_at checked idle_checks is_enough least_enough dead_steps idle_tests trimmed outside",
 }
 
 

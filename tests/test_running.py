@@ -7,7 +7,7 @@ from stillranges import errors
 from stillranges.running import (
     all_reached, can_go, first_left, first_run_to, holds_state, is_run, reached, shortest_leaving, state_behind,
     states_of, steps_from, stuck_states)
-from tests.helpers import ALL_DEEDS, CLIMB, FAR, LOOP, Case, any_program, any_span, dice
+from tests.helpers import ALL_DEEDS, CLIMB, FAR, LOOP, Case, any_program, any_span, dice, moves_from
 
 NAMES = ["x", "y", "z"]
 
@@ -115,17 +115,6 @@ class Runs(Case):
                    [[2, -1, 4], [-4, -1, 4], [1, -1, 4], [1, -1, 4], [1, 1, 4], [1, 4, 4], [4, 4, 4]])
 
 
-def all_moves(program, state):
-    place, numbers = state
-    found = []
-    for step, (source, _, deed) in enumerate(program[3]):
-        span = deed[2] if deed[0] == "input" else None
-        for number in [None] if span is None else range(span[0], span[1] + 1):
-            if can_go(program, state, (step, number)):
-                found.append((step, number))
-    return found
-
-
 def all_runs(program, most):
     """All runs of at most so many moves, by their lengths, in order, with their last states."""
     start = [list(numbers) for numbers in itertools.product(*[range(low, high + 1) for low, high in program[2]])]
@@ -133,7 +122,7 @@ def all_runs(program, most):
     levels = [level]
     for _ in range(most):
         level = [((numbers, moves + [move]), state_behind(program, state, move))
-                 for (numbers, moves), state in level for move in all_moves(program, state)]
+                 for (numbers, moves), state in level for move in moves_from(program, state)]
         levels.append(level)
     return levels
 
@@ -183,7 +172,7 @@ class Reached(Case):
             expected = min((first_run_to(program, state) for state in left),
                            key=lambda run: (len(run[1]), run), default=None)
             self.alike(shortest_leaving(program, table), expected)
-            self.alike(stuck_states(program), [state for state in states if not all_moves(program, state)])
+            self.alike(stuck_states(program), [state for state in states if not moves_from(program, state)])
         self.assertGreater(checked, 500)
 
     def test_all_reached_is_reached_behind_many_moves(self):
