@@ -88,7 +88,8 @@ def led_to_rings_not_above(program, opened, plan):
     led = _always_nearer(edges, bounds, {})
     waiting = list(led)
     while waiting:
-        for bound in ahead[waiting.pop()]:
+        behind = waiting.pop()
+        for bound in ahead[behind]:
             if bound not in led:
                 led[bound] = True
                 waiting.append(bound)

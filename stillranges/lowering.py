@@ -66,18 +66,24 @@ def _comes_down(sides, values, value, held):
     return any([behind in held and values[behind] + addend == value for behind, addend in sides])
 
 
+def _coming_down(system, values, lot):
+    """The list of the bounds of a lot all of whose options come down with it."""
+    held = {bound: True for bound in lot}
+    found = []
+    for bound in lot:
+        if all([_comes_down(sides, values, values[bound], held) for sides in system[bound].values()]):
+            found.append(bound)
+    return found
+
+
 def greatest_lot_of(program, table):
-    """All bounds of any lot that can be lowered: what holds up any of the rest is left out again and again."""
+    """All bounds of any lot that can be lowered: those that are held up are left out again and again."""
     _, system, values = _phase_at(program, table)
-    ahead = []
     lot = [bound for bound in system if values[bound] is not None]
-    while lot != ahead:
-        ahead = lot
-        held = {bound: True for bound in ahead}
-        lot = []
-        for bound in ahead:
-            if all([_comes_down(sides, values, values[bound], held) for sides in system[bound].values()]):
-                lot.append(bound)
+    less = _coming_down(system, values, lot)
+    while less != lot:
+        lot = less
+        less = _coming_down(system, values, lot)
     return lot
 
 

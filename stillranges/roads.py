@@ -34,16 +34,16 @@ def least_road(system, plan, values, bound):
     return road
 
 
-def _some_road(program, system, bound, value):
-    """Whether any value is a list of unlike bounds come to, a told one first."""
-    if not isinstance(value, list) or not all([a_bound(program, at) and at in system for at in value]):
+def _some_bounds(program, bound, value):
+    """Whether any value is a list of unlike bounds, a told one first."""
+    if not isinstance(value, list) or not all([a_bound(program, at) for at in value]):
         return False
     return value[:1] == [bound] and len(set(value)) == len(value)
 
 
 def a_least_road(program, system, plan, values, bound, value):
     """Whether any value is a road from a bound with the least sum."""
-    if values[bound] is None or not _some_road(program, system, bound, value):
+    if values[bound] is None or not _some_bounds(program, bound, value):
         return False
     rest = values[bound]
     for at, behind in zip(value, value[1:]):

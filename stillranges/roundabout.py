@@ -76,11 +76,11 @@ def farthest_without_rings(ways):
 def _keys_round(ways):
     """The keys of a ring, in order, [] if there is none."""
     clear = farthest_without_rings(ways)
-    # Each node that is not clear has a way to it from another such one, or from itself.
+    # Each node that is not clear has a way to it from another such one, or from itself, and leads to such ones alone.
     ahead = {}
     for node, nodes in ways.items():
         for behind in nodes:
-            if node not in clear and behind not in clear:
+            if node not in clear:
                 ahead[behind] = node
     if not ahead:
         return []

@@ -227,7 +227,7 @@ class Openings(Case):
             self.assertIs(is_openings(LOOP, OPENINGS[:at] + OPENINGS[at + 1:]), False)
             self.assertIs(is_openings(LOOP, OPENINGS[:at + 1] + OPENINGS[at:]), False)
         for value in (OPENINGS[::-1], tuple(OPENINGS), None, {}, [[]], [()], [([0, 1], OPENINGS[1][1]), OPENINGS[2]],
-                      [([0, 1, 2], LEAST)], [([], [[(0, 0)], None, None])] + OPENINGS):
+                      [([0, 1, 2], LEAST)], OPENINGS[:2] + [([0, 2], LEAST)], OPENINGS[:1] + [([0], OPENINGS[0][1])], [([], [[(0, 0)], None, None])] + OPENINGS):
             self.assertIs(is_openings(LOOP, value), False)
         self.assertIs(is_openings(ITSELF, []), True)
         self.assertIs(is_openings(ITSELF, [([0], [[(0, 0)], [(5, 5)]])]), False)

@@ -245,6 +245,9 @@ class Falls(Case):
                       [((3, "i", "high"), 0)], [(0, BOTH[0])], fall[0], [((0, "j", "high"), 0)]):
             self.assertIs(is_fall(LOOP, ENDLESS, value), False, value)
         self.assertIs(is_fall(LOOP, WIDER, fall), False)
+        # At a place to which nothing comes no end is endless.
+        for place, expected in ((0, True), (1, False)):
+            self.assertIs(is_fall(ITSELF, [[(None, 0)], None], [((place, "x", "low"), 0)]), expected)
 
     def test_unlike_numbers(self):
         """One number for all will not do where one bound is always one more than the other."""

@@ -113,6 +113,10 @@ class Values(Case):
         self.assertIs(is_road(FIVE, [0, 1], (0, "x", "low"), CLIMB, [HIGH]), False)
         self.assertIs(is_road(FIVE, [0, 1], HIGH, LOW, road), False)
         self.assertIs(is_road(LOOP, [0, 1], (0, "i", "high"), CLIMB, [(0, "i", "high"), (2, "i", "high")]), False)
+        endless = FIVE[:2] + ([(None, 0)],) + FIVE[3:]
+        for road in ([(0, "x", "low")], [(1, "x", "low"), (0, "x", "low")]):
+            self.assertIs(is_road(endless, [0, 1], road[0], LOW, road), False)
+            self.assertIsNone(road_of(endless, [0, 1], road[0], LOW))
         up = (["x"], 1, [(0, 0)], [(0, 0, ("add", "x", "x", 1))])
         self.assertIsNone(road_of(up, [0], HIGH, [(0, 0), (None, 0)]))
         self.assertIs(is_road(up, [0], HIGH, [(0, 0), (None, 0)], [HIGH]), False)
