@@ -1,19 +1,12 @@
 """Checks of sums: where they stand, which are idle, and how few are enough; dead steps, idle tests, and lists."""
 
 from stillranges.checking import program_checked, program_trimmed, steps_dead, tests_idle
-from stillranges.errors import InvalidStep, InvalidWish
-from stillranges.needs import need_program
+from stillranges.errors import InvalidWish
+from stillranges.needs import need_program, need_steps
 from stillranges.opening import least_of
-from stillranges.plain import a_count, a_name_of, a_place, a_step_number, ascending
+from stillranges.plain import a_count, a_name_of, a_place
 from stillranges.run_needs import need_program_and_width
 from stillranges.sums import has_sum, starts_fitting, steps_wanting
-
-
-def _need_steps(program, steps):
-    if not isinstance(steps, list) or not all([a_step_number(program, step) for step in steps]):
-        raise InvalidStep(steps)
-    if not ascending(steps):
-        raise InvalidStep(steps)
 
 
 def _all_steps(program):
@@ -36,7 +29,7 @@ def _cut_steps(program, width):
 def checked_at(program, width, steps):
     """The program in which some steps stop whoever comes to a sum that does not fit."""
     need_program_and_width(program, width)
-    _need_steps(program, steps)
+    need_steps(program, steps)
     return program_checked(program, width, steps)
 
 
@@ -56,7 +49,7 @@ def idle_checks(program, width):
 def is_enough(program, width, steps):
     """Whether the start fits, and with checks at some steps none of the others wants one."""
     need_program_and_width(program, width)
-    _need_steps(program, steps)
+    need_steps(program, steps)
     if not starts_fitting(program, width):
         return False
     return all([step in steps for step in _wanting_beside(program, width, steps)])

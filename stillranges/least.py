@@ -3,7 +3,8 @@
 from stillranges.errors import InvalidNumber
 from stillranges.needs import need_name, need_place, need_program
 from stillranges.opening import first_turn, least_of, steps_to_open, turn_behind, turns_by
-from stillranges.plain import DEED_FORMS, a_count, a_table, some_open
+from stillranges.plain import a_count, a_table, some_open
+from stillranges.sizes import greatest_number, limit_of_ends
 
 
 def least_table(program):
@@ -82,38 +83,13 @@ def is_openings(program, value):
     return not steps_to_open(program, turn)
 
 
-def _numbers_in(span):
-    return [end for end in span if end is not None]
-
-
-def _numbers_of(deed):
-    """The whole numbers that a deed tells."""
-    numbers = []
-    for form, part in zip(DEED_FORMS[deed[0]], deed[1:]):
-        if form == "c":
-            numbers.append(part)
-        elif form == "r":
-            numbers.extend(_numbers_in(part))
-    return numbers
-
-
-def _greatest_of(program):
-    numbers = [0]
-    for span in program[2]:
-        numbers.extend(_numbers_in(span))
-    for _, _, deed in program[3]:
-        numbers.extend(_numbers_of(deed))
-    return max([abs(number) for number in numbers])
-
-
 def greatest_told(program):
     """The greatest whole number, each without its sign, in the deeds and the ranges of a program."""
     need_program(program)
-    return _greatest_of(program)
+    return greatest_number(program)
 
 
 def end_limit(program):
     """What no end of the tables of openings passes."""
     need_program(program)
-    names, many, _, _ = program
-    return _greatest_of(program) * len(names) * 2 * many
+    return limit_of_ends(program)

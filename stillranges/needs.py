@@ -2,8 +2,9 @@
 
 from stillranges.errors import InvalidBound, InvalidDeed, InvalidName, InvalidNumber, InvalidOpen, InvalidPlace
 from stillranges.errors import InvalidProgram, InvalidRange, InvalidRow, InvalidState, InvalidStep, InvalidTable
+from stillranges.errors import InvalidWish
 from stillranges.plain import a_bound, a_count, a_deed, a_name_of, a_place, a_program, a_range, a_row, a_state
-from stillranges.plain import a_step_number, a_table, a_whole, some_names, some_open
+from stillranges.plain import a_step_number, a_table, a_whole, some_names, some_open, some_steps
 
 
 def need_number(number):
@@ -51,6 +52,11 @@ def need_step(program, step):
         raise InvalidStep(step)
 
 
+def need_steps(program, steps):
+    if not some_steps(program, steps):
+        raise InvalidStep(steps)
+
+
 def need_place(program, place):
     if not a_place(program, place):
         raise InvalidPlace(place)
@@ -74,6 +80,11 @@ def need_row(program, row):
 def need_table(program, table):
     if not a_table(program, table):
         raise InvalidTable(table)
+
+
+def need_wish(program, wish):
+    if not a_table(program, wish):
+        raise InvalidWish(wish)
 
 
 def need_open(program, opened):

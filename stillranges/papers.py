@@ -1,12 +1,13 @@
 """Papers and proofs, by which a judge sees that a table is the least one, and answers to claims."""
 
-from stillranges.needs import need_bound, need_number, need_program, need_table
+from stillranges.claims import need_claim, shown_in
+from stillranges.needs import need_program, need_table
 from stillranges.opening import least_of, turns_by
 from stillranges.options import system_of, worths_of
 from stillranges.phase_needs import need_phase, need_values
 from stillranges.plain import a_table
 from stillranges.proving import a_paper, paper_by, table_proved
-from stillranges.rows import end_of, kept_table
+from stillranges.rows import kept_table
 from stillranges.solving import carried_on, plans_from, values_by
 
 
@@ -51,49 +52,33 @@ def proof_of(program):
     return _proof_by(program)
 
 
-def _need_claim(program, bound, number):
-    need_program(program)
-    need_bound(program, bound)
-    need_number(number)
-
-
-def _shown_in(program, table, bound, number):
-    """Whether in a table nothing comes to the bound's place, or its value is a number and no wider."""
-    if table[bound[0]] is None:
-        return True
-    end = end_of(program, table, bound)
-    if end is None:
-        return False
-    return end <= number if bound[2] == "high" else end >= number
-
-
 def is_shown(program, bound, number):
     """Whether ranges show that a name never passes a number on this side at the bound's place."""
-    _need_claim(program, bound, number)
-    return _shown_in(program, least_of(program), bound, number)
+    need_claim(program, bound, number)
+    return shown_in(program, least_of(program), bound, number)
 
 
 def answer_to(program, bound, number):
     """An answer to the claim: a kept table in which it is so, or a proof that ends in one in which it is not."""
-    _need_claim(program, bound, number)
+    need_claim(program, bound, number)
     least = least_of(program)
-    return ("yes", least) if _shown_in(program, least, bound, number) else ("no", _proof_by(program))
+    return ("yes", least) if shown_in(program, least, bound, number) else ("no", _proof_by(program))
 
 
 def _shows(program, bound, number, table):
     """Whether any value is a kept table in which the claim is so."""
-    return a_table(program, table) and kept_table(program, table) and _shown_in(program, table, bound, number)
+    return a_table(program, table) and kept_table(program, table) and shown_in(program, table, bound, number)
 
 
 def _shows_not(program, bound, number, proof):
     """Whether any value is a proof that ends in a table in which the claim is not so."""
     table = table_proved(program, proof)
-    return table is not None and not _shown_in(program, table, bound, number)
+    return table is not None and not shown_in(program, table, bound, number)
 
 
 def is_answer(program, bound, number, value):
     """Whether any value is an answer to the claim."""
-    _need_claim(program, bound, number)
+    need_claim(program, bound, number)
     if not isinstance(value, tuple) or len(value) != 2:
         return False
     if value[0] == "yes":

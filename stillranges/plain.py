@@ -90,14 +90,14 @@ def a_number_below(many, value):
     return a_whole(value) and 0 <= value < many
 
 
-def _a_step(names, many, value):
+def a_step(names, many, value):
     if not isinstance(value, tuple) or len(value) != 3:
         return False
     source, target, deed = value
     return a_number_below(many, source) and a_number_below(many, target) and a_deed(names, deed)
 
 
-def _some_ranges(names, value):
+def some_ranges(names, value):
     if not isinstance(value, list) or len(value) != len(names):
         return False
     return all([a_range(span) for span in value])
@@ -107,9 +107,9 @@ def a_program(value):
     if not isinstance(value, tuple) or len(value) != 4:
         return False
     names, many, start, steps = value
-    if not some_names(names) or not a_whole(many) or many < 1 or not _some_ranges(names, start):
+    if not some_names(names) or not a_whole(many) or many < 1 or not some_ranges(names, start):
         return False
-    return isinstance(steps, list) and all([_a_step(names, many, step) for step in steps])
+    return isinstance(steps, list) and all([a_step(names, many, step) for step in steps])
 
 
 def a_name_of(program, value):
@@ -120,8 +120,18 @@ def a_place(program, value):
     return a_number_below(program[1], value)
 
 
+def some_places(program, value):
+    """Whether a value is an ascending list of places."""
+    return isinstance(value, list) and all([a_place(program, place) for place in value]) and ascending(value)
+
+
 def a_step_number(program, value):
     return a_number_below(len(program[3]), value)
+
+
+def some_steps(program, value):
+    """Whether a value is an ascending list of numbers of steps."""
+    return isinstance(value, list) and all([a_step_number(program, step) for step in value]) and ascending(value)
 
 
 def some_numbers(program, value):
@@ -138,7 +148,7 @@ def a_state(program, value):
 
 
 def a_row(program, value):
-    return _some_ranges(program[0], value)
+    return some_ranges(program[0], value)
 
 
 def a_table(program, value):
@@ -178,9 +188,7 @@ def places_come_to(program, opened):
 
 
 def some_open(program, value):
-    if not isinstance(value, list) or not all([a_step_number(program, step) for step in value]):
-        return False
-    if not ascending(value):
+    if not some_steps(program, value):
         return False
     come = places_come_to(program, value)
     return all([program[3][step][0] in come for step in value])

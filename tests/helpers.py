@@ -5,6 +5,7 @@ import random
 import unittest
 
 from stillranges import errors
+from stillranges.live import LiveChecker
 from stillranges.running import can_go
 
 LOOP = (["i"], 3, [(0, 0)], [(0, 1, ("upto", "i", 9)), (1, 0, ("add", "i", "i", 1)), (0, 2, ("from", "i", 10))])
@@ -51,7 +52,8 @@ JUNK = [
     ["go"], ["x"], ("x",), [1], (1,), (0, None), [0, None], (None, None), (True, 1), (0, [True]), (0, "x", "low"),
     (True, "x", "low"), (0, ["x"], "low"), (0, "x", ["low"]), ([], [], []), (["x"], 1, [(0, 0)], []),
     [(0, 0)], [None, None], [[], []], nested(4), nested(29), errors.InvalidNumber(3), errors.NothingToUndo(),
-    [errors.BoundError("x")], (errors.TooMany(), None), 0.5,
+    [errors.BoundError("x")], (errors.TooMany(), None), 0.5, LiveChecker((["x"], 1, [(0, 0)], [])),
+    [LiveChecker((["x"], 1, [(0, 0)], []))],
 ]
 
 

@@ -10,16 +10,13 @@ FOLDER = pathlib.Path(__file__).parent / "examples"
 class Examples(Case):
     def run_example(self, name, many):
         names = {}
-        ahead = None
         checked = 0
-        for line in (FOLDER / name).read_text(encoding="utf-8").splitlines():
-            if line.startswith("# "):
-                self.alike(eval(ahead, names), eval(line[2:], {}))
+        lines = (FOLDER / name).read_text(encoding="utf-8").splitlines()
+        for line, behind in zip(lines, lines[1:] + [""]):
+            if behind.startswith("# "):
+                self.alike(eval(line, names), eval(behind[2:], {}))
                 checked += 1
-                ahead = None
-            elif line.startswith(("[", "openings(", "bounds_of(", "text_of_program(")):
-                ahead = line
-            else:
+            elif not line.startswith("# "):
                 exec(line, names)
         self.assertEqual(checked, many)
 
@@ -49,3 +46,24 @@ class Examples(Case):
 
     def test_behind_55(self):
         self.run_example("behind_55.txt", 2)
+
+    def test_behind_60(self):
+        self.run_example("behind_60.txt", 5)
+
+    def test_behind_66(self):
+        self.run_example("behind_66.txt", 5)
+
+    def test_behind_71(self):
+        self.run_example("behind_71.txt", 4)
+
+    def test_behind_77(self):
+        self.run_example("behind_77.txt", 5)
+
+    def test_behind_81(self):
+        self.run_example("behind_81.txt", 4)
+
+    def test_all_examples_are_run(self):
+        told = ["7", "14", "20", "26", "28", "35", "40", "46", "55", "60", "66", "71", "77", "81"]
+        self.assertEqual(sorted(path.name for path in FOLDER.iterdir()), sorted(f"behind_{number}.txt" for number in told))
+        for number in told:
+            self.assertIn(f"test_behind_{number}", dir(self))

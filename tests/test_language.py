@@ -26,6 +26,8 @@ BARRED_NAMES = set(
     "copyright credits delattr dir eval exec exit gc getattr globals hasattr help id importlib license locals "
     "methodcaller os quit setattr super type vars sys".split())
 MODULE_LEVEL = (ast.ImportFrom, ast.FunctionDef, ast.ClassDef, ast.Assign)
+FROM_LIBRARY = {"itertools": ["combinations"]}
+DOUBLE = ("__init__", "__eq__")
 
 
 def parsed(path):
@@ -44,6 +46,21 @@ def bound_names(function):
     """The parameters and local variables of a function."""
     told = [argument.arg for argument in function.args.args]
     return told + [node.id for node in ast.walk(function) if isinstance(node, ast.Name) and isinstance(node.ctx, ast.Store)]
+
+
+def functions_in(tree):
+    """The functions and methods of a file."""
+    return [node for node in ast.walk(tree) if isinstance(node, ast.FunctionDef)]
+
+
+def methods_of(tree):
+    """The names of the methods of the classes of a file."""
+    return {part.name for node in tree.body if isinstance(node, ast.ClassDef) for part in node.body if hasattr(part, "name")}
+
+
+def attributes_of(tree):
+    """The names of the attributes that a file assigns."""
+    return {node.attr for node in ast.walk(tree) if isinstance(node, ast.Attribute) and isinstance(node.ctx, ast.Store)}
 
 
 class Language(unittest.TestCase):
@@ -103,7 +120,12 @@ class Language(unittest.TestCase):
             used = {node.id for node in ast.walk(tree) if isinstance(node, ast.Name)}
             ahead[path.stem] = set()
             for node in ast.walk(tree):
-                if isinstance(node, ast.ImportFrom):
+                if isinstance(node, ast.ImportFrom) and node.module in FROM_LIBRARY:
+                    for alias in node.names:
+                        self.assertIn(alias.name, FROM_LIBRARY[node.module])
+                        self.assertIsNone(alias.asname)
+                        self.assertIn(alias.name, used)
+                elif isinstance(node, ast.ImportFrom):
                     self.assertEqual((node.level, node.module.split(".")[0]), (0, "stillranges"))
                     self.assertIn(node, tree.body)
                     short = node.module.split(".")[1]
@@ -130,7 +152,8 @@ class Language(unittest.TestCase):
                 if isinstance(node, ast.FunctionDef):
                     bound = set(bound_names(node))
                     self.assertFalse(bound & (taken | classes), node.name)
-                    if node.name != "__init__":
+                    self.assertTrue(node.name in DOUBLE or not node.name.startswith("__"), node.name)
+                    if node.name not in DOUBLE:
                         bound.add(node.name)
                     self.assertFalse([name for name in bound if hasattr(builtins, name)])
                     self.assertFalse(bound & BARRED_NAMES)
@@ -138,8 +161,8 @@ class Language(unittest.TestCase):
                     self.assertLessEqual(loaded, BUILTINS, node.name)
                     self.assertNotIn("_", {part.id for part in ast.walk(node) if isinstance(part, ast.Name)
                                            and isinstance(part.ctx, ast.Load)})
-                if isinstance(node, ast.Attribute) and node.attr != "value":
-                    self.assertIn(node.attr, METHODS)
+                if isinstance(node, ast.Attribute):
+                    self.assertIn(node.attr, METHODS | methods_of(tree) | attributes_of(tree))
 
     def test_strings(self):
         for path, tree in self.each():
@@ -157,6 +180,18 @@ class Language(unittest.TestCase):
                 if isinstance(node, ast.ClassDef):
                     self.assertIn(node, tree.body)
                     self.assertFalse(node.decorator_list or node.keywords)
+                    for part in node.body:
+                        self.assertTrue(isinstance(part, ast.FunctionDef) or ast.get_docstring(node) and part is node.body[0])
+            self.assertFalse(methods_of(tree) & attributes_of(tree))
+            for function in functions_in(tree):
+                if function.name == "__eq__":
+                    self.assertEqual(ast.unparse(function.body[0]).splitlines()[1].strip(), "return False")
+                    self.assertRegex(ast.unparse(function.body[0]).splitlines()[0], r"^if not isinstance\(other, \w+\):$")
+
+    def test_lists_are_sorted_by_sorted(self):
+        """No .sort() beside a class that has an __eq__ of its own."""
+        for path, tree in self.each():
+            self.assertNotIn("sort", {node.attr for node in ast.walk(tree) if isinstance(node, ast.Attribute)})
 
     def test_sets_are_not_kept(self):
         for path, tree in self.each():

@@ -2,10 +2,10 @@
 
 import inspect
 
-from tests import calls, later_calls
+from tests import calls, last_calls, later_calls
 from tests.helpers import JUNK, Case, alike, copied, lists_in
 
-MODULES = calls.MODULES + later_calls.MODULES
+MODULES = calls.MODULES + later_calls.MODULES + last_calls.MODULES
 CALLS = [(function, good, told[0], told[1]) for _, rows in MODULES for function, good, told in rows]
 
 INTERFACE = {
@@ -33,6 +33,15 @@ INTERFACE = {
     "widths": "fits wrapped width_of widths_of start_fits sum_range wants_check wanting is_wrapped_run wrapped_states "
               "first_unlike",
     "checks": "checked_at checked idle_checks is_enough least_enough dead_steps idle_tests trimmed outside",
+    "rounds": "table_behind told_endless rests rounds_to_rest",
+    "leaps": "cuts_rings with_leaps leap_rounds going_down stands_still lost places_lost",
+    "asking": "wish_holds broken_at guarded widest_test with_input widest_input with_start widest_start",
+    "blame": "with_only blame_for is_blame cure_for is_cure all_blames all_cures",
+    "comparing": "same_table first_unlike_place is_wider",
+    "needless": "without_steps is_needless needless_steps kept_lot is_kept_lot all_kept_lots",
+    "shapes": "joined_places split_place",
+    "calls": "is_bundle is_walk stands_of contexts_of deepest expanded bundle_tables depth_for",
+    "live": "is_edit",
 }
 
 
@@ -137,6 +146,8 @@ class Telling(Case):
             "is_open": [[]],
             "can_go": [(0, None)],
             "is_proof": [[]],
+            "is_cure": [[1]],
+            "is_walk": [[]],
         }
         for function, good, names, _ in CALLS:
             if names[-1] == "value":
